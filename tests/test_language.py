@@ -16,9 +16,11 @@ BARRED = set("""mro elements open input law version_info with_traceback add_note
 compile copyright credits delattr dir eval exec exit gc getattr globals hasattr help id importlib license locals
 methodcaller os quit setattr type vars sys""".split())
 STATEMENTS = (ast.Assign, ast.AugAssign, ast.If, ast.While, ast.For, ast.Return, ast.Break, ast.Continue, ast.Pass,
-              ast.Raise, ast.Expr, ast.FunctionDef, ast.ClassDef, ast.ImportFrom)
-BARRED_NODES = (ast.Lambda, ast.Await, ast.Yield, ast.YieldFrom, ast.GeneratorExp, ast.Try, ast.Global, ast.Nonlocal,
+              ast.Raise, ast.Expr, ast.FunctionDef, ast.ClassDef, ast.ImportFrom, ast.Delete, ast.Try)
+BARRED_NODES = (ast.Lambda, ast.Await, ast.Yield, ast.YieldFrom, ast.GeneratorExp, ast.Global, ast.Nonlocal,
                 ast.Import, ast.Starred, ast.NamedExpr, ast.Div, ast.Pow, ast.MatMult)
+BARRED_ATTRIBUTES = set("""items keys values pop update append clear extend insert remove reverse setdefault sort args encode
+decode hex fromhex format format_map mro""".split())
 DOUBLE = ("__init__", "__len__", "__getitem__", "__iter__", "__eq__")
 
 
@@ -121,6 +123,51 @@ class Language(unittest.TestCase):
                     if isinstance(sign, (ast.Is, ast.IsNot)):
                         self.assertIsInstance(right, ast.Constant)
                         self.assertIn(right.value, (None, True, False))
+
+
+    def test_errors_that_are_caught_l19(self):
+        own = {node.name for node in nodes(PACKAGE / "errors.py", ast.ClassDef)}
+        for path in files():
+            for node in nodes(path, ast.Try):
+                self.assertEqual(node.finalbody, [])
+                for handler in node.handlers:
+                    names = handler.type.elts if isinstance(handler.type, ast.Tuple) else [handler.type]
+                    self.assertEqual({name.id for name in names} - own, set(), path.name)
+
+    def test_attributes_l18_l26(self):
+        stored = {node.attr for path in files() for node in nodes(path, ast.Attribute) if isinstance(node.ctx, ast.Store)}
+        read = {node.attr for path in files() for node in nodes(path, ast.Attribute) if isinstance(node.ctx, ast.Load)}
+        methods = {node.name for path in files() for kind in nodes(path, ast.ClassDef) for node in kind.body
+                   if isinstance(node, ast.FunctionDef)}
+        self.assertEqual(stored & BARRED_ATTRIBUTES, set())
+        self.assertEqual(methods & (BARRED_ATTRIBUTES | METHODS), set())
+        self.assertEqual(stored & methods, set())
+        self.assertEqual(read - stored - methods - METHODS, set())
+        for path in files():
+            for node in nodes(path, ast.Attribute):
+                if isinstance(node.ctx, ast.Store):
+                    self.assertIsInstance(node.value, ast.Name, path.name)
+
+    def test_deleted_items_l6(self):
+        for path in files():
+            for node in nodes(path, ast.Delete):
+                for target in node.targets:
+                    self.assertIsInstance(target, ast.Subscript, path.name)
+
+    def test_iterated_at_once_l23(self):
+        for path in files():
+            tree = ast.parse(path.read_text())
+            inside = [node.iter for node in ast.walk(tree) if isinstance(node, (ast.For, ast.comprehension))]
+            inside += [node.args[0] for node in ast.walk(tree) if isinstance(node, ast.Call) and node.args
+                       and isinstance(node.func, ast.Name) and node.func.id in ("list", "tuple", "dict", "sorted", "sum")]
+            inside = [ast.dump(node) for node in inside]
+            for node in nodes(path, ast.Call):
+                name = node.func.attr if isinstance(node.func, ast.Attribute) else getattr(node.func, "id", "")
+                if name in ("items", "keys", "values", "zip", "enumerate", "reversed", "range"):
+                    self.assertIn(ast.dump(node), inside, path.name)
+
+    def test_tests_stand_beside_the_package(self):
+        self.assertEqual([path.name for path in files() if "test" in path.name], [])
 
 
 def nodes_at_top(tree, node):
