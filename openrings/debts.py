@@ -11,10 +11,11 @@ class Debt:
     are done with. `count` tells of each item that can still be written how many rows that are done
     with hold it. `wanted` are rows that an item further on, in a row that is done with, must not
     find empty. `gone` are rows that are done with and were emptied, ascending. `left` and `right`
-    have, in the way sorted, the homes of items in the rows beside, if these are done with.
+    have, in the way sorted, of the items in the rows beside, if these are done with, pairs: the
+    home, and whether the item was not there at the start; `beside` is such a pair of the front row.
     `behind` and `ahead` bound the rows that may be empty at the end, if an item was put ahead of
-    its home. `is_short` tells that items are not the owed ones, `is_moved` that one has moved.
-    `is_filled` tells whether the empty row behind the run was filled.
+    its home. `is_short` tells that items are not the owed ones, `is_moved` that one has moved,
+    `is_filled` that the empty row behind the run was filled.
     """
 
     def __init__(self):

@@ -168,16 +168,6 @@ def item_named(scene, name):
     return held if is_item(held) else None
 
 
-def unknown_home(scene, line):
-    """The item in the row at, if a test needs its home and the home is not known yet, or None."""
-    for _, _, words in line.test:
-        if "home" in words:
-            item = item_named(scene, "home")
-            if item is not None and scene.home_of(item) is None:
-                return item
-    return None
-
-
 def spot_named(scene, name):
     """The spot that a comparison names, None if there is none, or UNKNOWN."""
     if name not in ("home", "hand"):

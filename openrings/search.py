@@ -4,7 +4,7 @@ from openrings.cases import comes_up, make_case
 from openrings.debts import Debt, is_changed
 from openrings.judge import judge, missing_rows
 from openrings.lives import TESTS
-from openrings.moves import UNKNOWN, do_line, holds, meet, unknown_home
+from openrings.moves import UNKNOWN, do_line, holds, item_named, meet
 from openrings.plans import ROOMS, Plan
 from openrings.play import BEYOND, ENDLESS
 from openrings.rings import STONE
@@ -186,7 +186,8 @@ class Search:
             scene.headed = True
         answer = holds(scene, line.test)
         if answer == UNKNOWN:
-            item = unknown_home(scene, line)
+            # The home of an item in the hand has been chosen when it came there.
+            item = item_named(scene, "home")
             self.work.extend(with_home(scene, self.plan, item, None, item))
             return
         if answer is None:

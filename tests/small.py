@@ -53,8 +53,8 @@ def small_plays(code, most=MOST_ROWS):
 def numbers(seed):
     """Numbers without end that look as if they came by chance."""
     while True:
-        seed = (seed * 1103515245 + 12345) % 2 ** 31
-        yield seed >> 8
+        seed = (seed * 6364136223846793005 + 1442695040888963407) % 2 ** 64
+        yield seed >> 33
 
 
 def filled(items, many, way):

@@ -195,6 +195,16 @@ class Verdicts(Checked):
         self.broken("take", "plain", ["empty low"], inside=2)
         self.broken("put", "sorted", ["at = first", "swap hand at"], inside=2, lawful=5, items=3)
 
+    def test_each_way_to_go_beyond(self):
+        for lines in (["low = next at"], ["low gets at"], ["at = first", "at gets low"],
+                      ["at = first", "low gets at"], ["low gets hand"], ["at = first", "at gets hand"], ["hand gets top"],
+                      ["empty at"], ["if low is empty", "end"], ["if low < first", "end"], ["if first < home", "end"],
+                      ["at = first", "if at < hand", "end"], ["low = first", "if from first < from low", "end"],
+                      ["if from at < from first", "end"], ["at = first", "swap hand at"], ["swap hand low"]):
+            code = Code("find", "plain", text_of(*lines))
+            self.check(code)
+            self.assertEqual(size(code, "inside"), 1, lines)
+
     def test_ahead_of_its_home(self):
         self.broken("take", "plain", ["hole = at", "at = next at", "walk not at is empty", "hole gets at", "keep hole",
                                       "go", "end", "empty hole"], lawful=3, steady=3)
@@ -249,6 +259,25 @@ class Verdicts(Checked):
         self.broken("take", "stones", lines, inside=3, ends=2, lawful=5, items=4, steady=4)
         ring, row = least_case(Code("take", "stones", text_of(*lines)), "steady")
         self.assertEqual(ring.count(None), 1)
+
+    def test_ahead_among_stones(self):
+        step = ["low = next at", "hole = next low"]
+        self.broken("take", "stones", ["low = next at", "if low is item", "at gets low", "stone low", "else", "stone at",
+                                       "end"], lawful=3, steady=3)
+        self.broken("take", "stones", [*step, "if hole is item", "at gets hole", "empty low", "stone hole", "else",
+                                       "stone at", "end"], ends=2, lawful=4, items=4, steady=4)
+        self.broken("drop", "stones", ["at = first", "if at is empty", "quit", "end", *step, "if at is key and hole is item",
+                                       "at gets hole", "stone hole", "quit", "end"], ends=2, lawful=4, items=3, steady=4)
+
+    def test_rows_between_emptied_ones(self):
+        walk = ["hole = at", "walk not at is empty", "if steps < 1", "empty at", "else", "if steps < 2", "keep low", "else",
+                "empty at", "end", "end", "go", "end", "if low is none", "quit", "end"]
+        for more in (["empty low"], ["low gets hole"], ["hole gets low", "empty low"], ["hole gets low"], []):
+            for way in WAYS:
+                self.check(Code("take", way, text_of(*walk, *more)))
+        code = Code("take", "plain", text_of(*walk, "hole gets low", "empty low"))
+        self.assertEqual({name: size(code, name) for name in PROMISES},
+                         {"inside": None, "ends": None, "lawful": 3, "items": 4, "out": None, "steady": 3})
 
     def test_the_first_row_that_was_not_met(self):
         # What breaks the promise lies behind all that the play comes to.
